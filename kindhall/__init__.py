@@ -1,0 +1,1 @@
+"""Kindhall: what follows of sayings about kinds, ties and things."""
