@@ -1,4 +1,4 @@
-"""The plain rows of sayings."""
+"""The plain rows of sayings, and what they tell."""
 
 
 def plain(saying):
@@ -19,3 +19,10 @@ def plain(saying):
     if sort == "thing":
         return [("mark", saying[1], saying[2])]
     return [("link", saying[1], saying[2], saying[3])]
+
+
+def stated(row):
+    """The conclusion that a mark row or a link row tells by itself."""
+    if row[0] == "mark":
+        return ("is", ("thing", row[1]), row[2])
+    return ("tied", ("thing", row[1]), row[2], ("thing", row[3]))

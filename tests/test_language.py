@@ -6,6 +6,9 @@ import pathlib
 import re
 import unittest
 
+from kindhall.closing import tell_all, due_at_once, due_behind
+from kindhall.ledger import Ledger
+from kindhall.lookup import Lookup
 from kindhall.thoughts import add_parts
 from tests.samples import towers
 
@@ -30,6 +33,14 @@ BARRED_NAMES = """register mro elements open input version_info with_traceback a
 copyright credits delattr dir eval exec exit gc getattr globals hasattr help id importlib license locals methodcaller os quit
 setattr type vars sys chr format format_map""".split()
 BARRED_NODES = (ast.Global, ast.AsyncFunctionDef, ast.AsyncFor, ast.AsyncWith, ast.Await, ast.Import, ast.Div)
+# The package makes do with these sorts of code; whoever adds one keeps to the rules about it and tests them here.
+USED_NODES = """Add And Assign Attribute AugAssign BinOp BoolOp Call ClassDef Compare Constant Dict DictComp Eq Expr For
+FormattedValue FunctionDef Gt GtE If IfExp ImportFrom In Is IsNot JoinedStr List ListComp Load Lt LtE Module Mult Name Not
+NotEq NotIn Or Raise Return Slice Store Sub Subscript Tuple USub UnaryOp While alias arg arguments comprehension
+keyword""".split()
+MODIFYING = "append clear extend insert pop remove reverse setdefault sort update".split()
+AT_ONCE = "zip enumerate reversed range".split()
+TAKERS = "list tuple dict sorted sum any all enumerate zip bytes min max".split()
 
 
 def nodes(*kinds):
@@ -56,6 +67,39 @@ def module_names(tree):
         elif isinstance(row, ast.ImportFrom):
             found += [alias.asname or alias.name for alias in row.names]
     return found
+
+
+def with_parents(*kinds):
+    """All nodes of these kinds in the package, each with its file and the node right around it."""
+    return [
+        (name, node, around)
+        for name, tree in TREES.items()
+        for around in ast.walk(tree)
+        for node in ast.iter_child_nodes(around)
+        if isinstance(node, kinds)
+    ]
+
+
+def called(node):
+    """The name of the function or method that is called, where a name is."""
+    if not isinstance(node, ast.Call):
+        return None
+    return getattr(node.func, "id", None) or getattr(node.func, "attr", None)
+
+
+def tables():
+    """The names at module level that stand for lists and dicts."""
+    rows = [row for tree in TREES.values() for row in tree.body if isinstance(row, ast.Assign)]
+    return {row.targets[0].id for row in rows if isinstance(row.value, (ast.Dict, ast.List))}
+
+
+def attributes(*contexts):
+    """The attributes of the package in these contexts that are not called."""
+    called_ones = {id(node.func) for name, node in nodes(ast.Call)}
+    return {
+        node.attr for name, node in nodes(ast.Attribute)
+        if isinstance(node.ctx, contexts) and id(node) not in called_ones
+    }
 
 
 def file_of(module):
@@ -169,6 +213,78 @@ class Language(unittest.TestCase):
             places = {}
             add_parts(thought, [], places)
             self.assertLessEqual(max(nesting(key) for key in places), 8, text)
+
+    def test_keys_of_a_closing(self):
+        for thought, text in towers(40):
+            ledger = Ledger()
+            asked = ledger.number(thought)
+            lookup = Lookup([(1, ("every", ("any",), thought)), (2, ("thing", "x", thought)), (3, ("runs", "r"))], ledger)
+            tell_all(ledger, due_at_once(lookup, asked))
+            at = 0
+            while at < len(ledger.facts):
+                tell_all(ledger, due_behind(ledger, lookup, at))
+                at += 1
+            self.assertGreater(len(ledger.log), 40)
+            for held in list(vars(ledger).values()) + list(vars(lookup).values()):
+                if isinstance(held, dict):
+                    self.assertLessEqual(max([nesting(key) for key in held], default=0), 8, text)
+
+    def test_sorts_of_code(self):
+        self.assertEqual({type(node).__name__ for name, node in nodes(ast.AST)} - set(USED_NODES), set())
+
+    def test_local_names(self):
+        for name, tree in TREES.items():
+            taken = {alias.asname or alias.name for row in tree.body if isinstance(row, ast.ImportFrom) for alias in row.names}
+            taken |= {row.name for row in tree.body if isinstance(row, (ast.ClassDef, ast.FunctionDef))}
+            found = {node.arg for node in ast.walk(tree) if isinstance(node, ast.arg)}
+            found |= {node.id for node in ast.walk(tree) if isinstance(node, ast.Name) and isinstance(node.ctx, ast.Store)}
+            self.assertEqual(found & taken, set(), name)
+
+    def test_classes(self):
+        methods = [row.name for name, node in nodes(ast.ClassDef) for row in node.body if isinstance(row, ast.FunctionDef)]
+        taken = set(METHODS) | {found for kind in (str, int, list, dict, set, bytes, tuple) for found in dir(kind)}
+        self.assertEqual(attributes(ast.Load, ast.Store) & set(methods), set())
+        self.assertEqual(attributes(ast.Load) - attributes(ast.Store), set())
+        self.assertEqual((attributes(ast.Store) | set(methods) - set(DUNDER_METHODS)) & taken, set())
+        self.assertFalse({found for found in attributes(ast.Load, ast.Store) if found.startswith("_")})
+
+    def test_sets_are_sorted_at_once(self):
+        for name, node, around in with_parents(ast.Call):
+            if called(node) == "set":
+                self.assertIn(called(around), ("sorted", "len"), (name, node.lineno))
+
+    def test_iterated_at_once(self):
+        for name, node, around in with_parents(ast.Call):
+            if called(node) in AT_ONCE + ["items", "keys", "values"]:
+                looped = isinstance(around, (ast.For, ast.comprehension)) and around.iter == node
+                self.assertTrue(looped or called(around) in TAKERS, (name, node.lineno))
+
+    def test_loops_leave_what_they_go_through(self):
+        for name, loop in nodes(ast.For):
+            through = {ast.unparse(node) for node in ast.walk(loop.iter) if isinstance(node, (ast.Name, ast.Attribute))}
+            for node in [node for row in loop.body for node in ast.walk(row)]:
+                if called(node) in MODIFYING and isinstance(node.func, ast.Attribute):
+                    self.assertNotIn(ast.unparse(node.func.value), through, (name, node.lineno))
+                if isinstance(node, ast.Subscript) and isinstance(node.ctx, ast.Store):
+                    self.assertNotIn(ast.unparse(node.value), through, (name, node.lineno))
+
+    def test_tables_are_only_read(self):
+        found = tables()
+        for name, node, around in with_parents(ast.Name):
+            if node.id in found and isinstance(node.ctx, ast.Load):
+                held = isinstance(around, ast.Subscript) and isinstance(around.ctx, ast.Load) or isinstance(around, ast.Compare)
+                self.assertTrue(held, (name, node.lineno))
+        # A function out of a table is called by a name of its own.
+        for name, node in nodes(ast.Call):
+            self.assertIsInstance(node.func, (ast.Name, ast.Attribute), (name, node.lineno))
+
+    def test_calls_pass_what_is_taken(self):
+        takes = {row.name: row.args for tree in TREES.values() for row in tree.body if isinstance(row, ast.FunctionDef)}
+        for name, node in nodes(ast.Call):
+            if isinstance(node.func, ast.Name) and node.func.id in takes:
+                taken = takes[node.func.id]
+                given = len(node.args) + len(node.keywords)
+                self.assertTrue(len(taken.args) - len(taken.defaults) <= given <= len(taken.args), (name, node.lineno))
 
     def test_handlers(self):
         for name, node in nodes(ast.ExceptHandler):
