@@ -1,6 +1,7 @@
 """The closing of a book: all that follows about what is asked, step by step.
 
 Here a step that is due is a tuple like a step of a log, with a fact of the ledger in the place of the conclusion.
+It may be told already; where ties make many such steps, they are left out at once, as that saves most of the time.
 """
 
 from kindhall.ledger import Ledger
@@ -9,6 +10,11 @@ from kindhall.lookup import Lookup
 
 def closed(book, asked, log=None):
     """The log handed in, and behind it steps to all that the closing tells of the book and the asked thoughts."""
+    return settled(book, asked, log).log
+
+
+def settled(book, asked, log):
+    """The ledger of the closing."""
     ledger = Ledger()
     if log is not None:
         for step in log:
@@ -22,7 +28,7 @@ def closed(book, asked, log=None):
     while at < len(ledger.facts):
         tell_all(ledger, due_behind(ledger, lookup, at))
         at += 1
-    return ledger.log
+    return ledger
 
 
 def tell_all(ledger, due):
@@ -41,6 +47,7 @@ def due_behind(ledger, lookup, at):
             + due_of_shape(lookup, fact, at)
             + due_of_boths(ledger, lookup, fact)
             + due_of_behind(ledger, lookup, fact, at)
+            + due_of_void(ledger, lookup, fact, at)
         )
     return (
         due_of_subject(lookup, fact[1], at)
@@ -94,33 +101,40 @@ def due_of_boths(ledger, lookup, fact):
 
 
 def due_of_behind(ledger, lookup, fact, at):
-    """The steps by in and void of what is tied to the fact's subject."""
+    """The steps by in of what is tied to the fact's subject."""
     sort, end, thought = fact
     due = []
-    for start, tie in ledger.behind.get(end, []):
-        ahead = (ledger.standing[("tied", start, tie, end)], at)
-        due.extend(due_of_tie(lookup, start, tie, thought, ahead))
+    for tie, whole in lookup.wholes.get(thought, []):
+        for start in ledger.backward.get((end, tie), []):
+            if ("is", start, whole) not in ledger.standing:
+                ahead = (ledger.standing[("tied", start, tie, end)], at)
+                due.append(("in", ("is", start, whole), ahead, None))
     return due
+
+
+def due_of_void(ledger, lookup, fact, at):
+    """The steps by void of what is tied to the fact's subject, where that is nothing."""
+    sort, end, thought = fact
+    if thought != lookup.nothing:
+        return []
+    return [
+        ("void", ("is", start, thought), (ledger.standing[("tied", start, tie, end)], at), None)
+        for start, tie in ledger.behind.get(end, [])
+    ]
 
 
 def due_of_end(ledger, lookup, fact, at):
     """The steps by in and void of what the fact's tie ends at."""
     sort, start, tie, end = fact
-    due = []
-    for thought in ledger.borne.get(end, []):
-        ahead = (at, ledger.standing[("is", end, thought)])
-        due.extend(due_of_tie(lookup, start, tie, thought, ahead))
-    return due
-
-
-def due_of_tie(lookup, start, tie, thought, ahead):
-    """The steps by in and void of a start that is tied to what is the thought, as is told at the places ahead."""
-    due = []
-    if (tie, thought) in lookup.somes:
-        due.append(("in", ("is", start, lookup.somes[(tie, thought)]), ahead, None))
-    if thought == lookup.nothing:
-        due.append(("void", ("is", start, thought), ahead, None))
-    return due
+    inners = [inner for inner in ledger.borne.get(end, []) if (tie, inner) in lookup.somes]
+    found = [("in", lookup.somes[(tie, inner)], inner) for inner in inners]
+    if ("is", end, lookup.nothing) in ledger.standing:
+        found.append(("void", lookup.nothing, lookup.nothing))
+    return [
+        (rule, ("is", start, thought), (at, ledger.standing[("is", end, inner)]), None)
+        for rule, thought, inner in found
+        if ("is", start, thought) not in ledger.standing
+    ]
 
 
 def due_of_subs(lookup, fact, at):
@@ -135,8 +149,9 @@ def due_of_firsts(ledger, lookup, fact, at):
     due = []
     for number, second, whole in lookup.firsts.get(tie, []):
         for end in ledger.onward.get((middle, second), []):
-            ahead = (at, ledger.standing[("tied", middle, second, end)])
-            due.append(("chain", ("tied", start, whole, end), ahead, number))
+            if ("tied", start, whole, end) not in ledger.standing:
+                ahead = (at, ledger.standing[("tied", middle, second, end)])
+                due.append(("chain", ("tied", start, whole, end), ahead, number))
     return due
 
 
@@ -146,6 +161,7 @@ def due_of_seconds(ledger, lookup, fact, at):
     due = []
     for number, first, whole in lookup.seconds.get(tie, []):
         for start in ledger.backward.get((middle, first), []):
-            ahead = (ledger.standing[("tied", start, first, middle)], at)
-            due.append(("chain", ("tied", start, whole, end), ahead, number))
+            if ("tied", start, whole, end) not in ledger.standing:
+                ahead = (ledger.standing[("tied", start, first, middle)], at)
+                due.append(("chain", ("tied", start, whole, end), ahead, number))
     return due

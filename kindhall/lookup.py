@@ -32,6 +32,8 @@ class Lookup:
     def take_thoughts(self, shapes):
         """Note the thoughts and things by their numbers, and those made of others by the others."""
         self.shapes = shapes
-        self.somes = {shape[1:]: whole for whole, shape in enumerate(shapes) if shape[0] == "some"}
+        somes = [(whole, shape) for whole, shape in enumerate(shapes) if shape[0] == "some"]
+        self.somes = {shape[1:]: whole for whole, shape in somes}
+        self.wholes = grouped([(shape[2], (shape[1], whole)) for whole, shape in somes])
         boths = [(whole, shape) for whole, shape in enumerate(shapes) if shape[0] == "both"]
         self.boths = grouped([(part, whole) for whole, shape in boths for part in shape[1:]])

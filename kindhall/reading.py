@@ -5,7 +5,7 @@ right behind it, and refuse a text that goes on otherwise there.
 """
 
 from kindhall.errors import NoText, TooDeep
-from kindhall.thoughts import JOINTS, LETTERS, is_name
+from kindhall.thoughts import JOINTS, LETTERS, WORDS, is_name, thought_of
 
 MOST_OPEN = 12
 
@@ -72,12 +72,9 @@ def thought_at(text, at):
     if text.startswith("(", at):
         return bracket_at(text, at + 1)
     word, end = word_at(text, at)
-    if word == "anything":
-        return ("any",), end
-    if word == "nothing":
-        return ("none",), end
-    name, end = name_at(text, at)
-    return ("kind", name), end
+    if word not in WORDS:
+        word, end = name_at(text, at)
+    return thought_of(word), end
 
 
 def bracket_at(text, at):

@@ -6,6 +6,9 @@ FIXED_WORDS = (
     "every", "same", "no", "tie", "thing", "is", "as", "runs", "on", "and", "some", "anything", "nothing",
 )
 
+# The words that stand for a thought without being the name of a kind.
+WORDS = {"anything": ("any",), "nothing": ("none",)}
+
 # The sorts of sayings about two thoughts, each with the word that it is written with between them.
 JOINTS = {"every": "is", "same": "as", "no": "is"}
 
@@ -15,6 +18,13 @@ def is_name(text):
     if not 1 <= len(text) <= LONGEST_NAME:
         return False
     return text not in FIXED_WORDS and all([sign in LETTERS for sign in text])
+
+
+def thought_of(word):
+    """The thought that a kind's name, anything or nothing stands for."""
+    if word in WORDS:
+        return WORDS[word]
+    return ("kind", word)
 
 
 def within(thought):

@@ -272,8 +272,9 @@ class Language(unittest.TestCase):
         found = tables()
         for name, node, around in with_parents(ast.Name):
             if node.id in found and isinstance(node.ctx, ast.Load):
-                held = isinstance(around, ast.Subscript) and isinstance(around.ctx, ast.Load) or isinstance(around, ast.Compare)
-                self.assertTrue(held, (name, node.lineno))
+                read = isinstance(around, ast.Subscript) and isinstance(around.ctx, ast.Load) or isinstance(around, ast.Compare)
+                copied = called(around) in ("list", "dict")
+                self.assertTrue(read or copied, (name, node.lineno))
         # A function out of a table is called by a name of its own.
         for name, node in nodes(ast.Call):
             self.assertIsInstance(node.func, (ast.Name, ast.Attribute), (name, node.lineno))
