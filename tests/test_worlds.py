@@ -4,7 +4,7 @@ import copy
 import unittest
 
 from kindhall.worlds import points_of
-from tests.made import Maker, full_world, path, ring
+from tests.made import Maker, full_world, path
 from tests.samples import A, ANY, B, NONE, leaning, tied, towers
 
 EMPTY = ([], [], [])
