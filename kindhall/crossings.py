@@ -1,4 +1,4 @@
-"""Crossings of sets: the smallest lists that have a number of each set."""
+"""Crossings of sets: lists that have a number of each set, and none that could be left out for that."""
 
 
 def crossings(sets):

@@ -8,7 +8,7 @@ MOST_DOUBTED = 8
 
 
 def why(book, saying):
-    """A smallest list of numbers from whose part the saying follows, None where it does not follow."""
+    """Numbers from whose part the saying follows, none of which can be left out; None where it does not follow."""
     return why_among(book, numbers_in(book), saying)
 
 
@@ -59,10 +59,11 @@ def without(book, numbers):
 
 
 def why_among(book, doubted, saying):
-    """A smallest list of doubted numbers that the saying follows by, with all that are not doubted, or None."""
+    """Doubted numbers by which, with all that are not doubted, the saying follows, none of which can be left out."""
     kept = gone_by(book, doubted, saying)
     if kept is None:
         return None
+    # A number that was needed once is still needed where fewer are left, so each one is tried but once.
     for number in doubted:
         if number in kept:
             left_out = [other for other in doubted if other == number or other not in kept]
